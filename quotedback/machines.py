@@ -56,6 +56,13 @@ class Machine:
     def lets(self, standing, index):
         return standing & self.ends[index] != 0
 
+    def lets_by(self, text):
+        """Tells whether the first pattern lets a text by."""
+        standing = self.start
+        for sign in text:
+            standing = self.stepped(standing, self.mask_of(sign))
+        return self.lets(standing, 0)
+
     def classes(self):
         """Returns the list of the first signs, ascending, of the classes of signs that no tuple tells apart."""
         found = [ALL_SIGNS]

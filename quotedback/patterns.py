@@ -91,7 +91,7 @@ def of_told(row):
 
 def meets(pattern, text):
     check_patterns([pattern])
-    return len(text) in lengths_of(pattern, text)
+    return Machine([pattern]).lets_by(text)
 
 
 def heads(pattern, text):

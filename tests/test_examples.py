@@ -2,6 +2,11 @@
 
 import unittest
 
+from quotedback.checks import (
+    can_meet_paths, field_count, is_single, list_comes_to, quoted_least, reads, same_lists, same_words, sets, splitting,
+)
+from quotedback.deeds import is_deed, said, tested
+from quotedback.expansions import all_fields, fields, joined, names_behind, pattern, signs
 from quotedback.patterns import (
     common, first_apart, heads, least_text, meets, never_met, pattern_of, same, tails, unmet, within,
 )
@@ -9,6 +14,7 @@ from quotedback.readings import is_shown, quote, quote_all, read_script, read_su
 from quotedback.sums import folded, names_in, worked_out
 from quotedback.texts import show_script, show_sum, show_word
 from quotedback.trees import calls, commands_in, depth, first_wrong, is_script, is_word, words_of
+from quotedback.worlds import below, deeds_between, moved, path_of, room_of, undone, with_file, without
 
 
 class ExamplesTest(unittest.TestCase):
@@ -64,3 +70,49 @@ class ExamplesTest(unittest.TestCase):
         signs = [("[", "bare"), ("a", "bare"), ("-", "bare"), ("c", "bare"), ("]", "bare"), ("*", "firm")]
         told = [never_met([[a_star], [star], [[("any",)]]]), unmet([[a_star], [[("lot",), ("one", "b")]]]), pattern_of(signs)]
         self.assertEqual(told, [[2], "", [("of", False, [("a", "c")]), ("one", "*")]])
+
+    def test_expansions(self):
+        room = ({"x": "a  b", "e": ""}, ["1 2", "3"], "me", 0, ["ab", "ac", "d/e"])
+        told = [fields(read_word(text), room, []) for text in ("$x", '"$x"', "p$x", "$e", '"$e"', "a*", "'a*'", '"$@"z')]
+        self.assertEqual(told, [["a", "b"], ["a  b"], ["pa", "b"], [], [""], ["ab", "ac"], ["a*"], ["1 2", "3z"]])
+        told = [
+            joined(read_word("$x*"), room, []), fields(read_word("${e:-n$x}"), room, []), names_behind(read_word("${y=q}$y"), room, []),
+            fields(read_word("$((2*3))${x^b}"), room, []), fields(read_word("d/?"), room, []), fields(read_word("$(ls)"), room, ["u v\n\n"]),
+        ]
+        self.assertEqual(told, ["a  b*", ["na", "b"], {"x": "a  b", "e": "", "y": "q"}, ["6a"], ["d/e"], ["u", "v"]])
+        self.assertEqual(all_fields([read_word("$x"), read_word("$e")], room, []), ["a", "b"])
+        self.assertEqual(signs(read_word("a"), room, []), [("a", "bare")])
+        self.assertEqual(pattern(read_word("a*"), room, []), [("one", "a"), ("lot",)])
+
+    def test_checks(self):
+        told = [
+            field_count(read_word("a$x")), field_count(read_word("$x")), field_count(read_word('"$@"')), is_single(read_word('"a$x"')),
+            is_single(read_word("a*")), can_meet_paths(read_word('"*"')), quoted_least(read_word('a"$#"')),
+        ]
+        self.assertEqual(told, [(1, None), (0, None), (0, None), True, False, False, True])
+        told = [
+            reads(read_script("x=1\necho $x $y\nread y")), sets(read_script("x=1\nfor z in a\ndo\n: ${w=2}\ndone")),
+            same_lists(read_script("a && b || c")[0], read_script("a || c")[0]), same_words(read_word("'a'b$x"), read_word("ab$x")),
+        ]
+        self.assertEqual(told, [["y"], ["w", "x", "z"], [True], True])
+        self.assertEqual(list_comes_to(read_script("a")[0]), [False, True])
+        self.assertIsNone(splitting(read_word("a")))
+
+    def test_worlds(self):
+        world = ({"/a": "1\n", "/d": None, "/d/e": ""}, "/d", {"x": "2"}, [], "me", 0, {})
+        told = [
+            path_of(world, "../a"), path_of(world, "e/./f"), room_of(world)[4], below(world, "/d"), sorted(moved(world, "/d", "/g")[0]),
+            deeds_between(world, without(with_file(world, "/h", "z"), "/d")),
+        ]
+        self.assertEqual(told, [
+            "/a", "/d/e/f", ["/a", "/d", "/d/e", "e"], ["e"], ["/a", "/g", "/g/e"], [("lost", "/d"), ("file", "/h", "z")],
+        ])
+        self.assertEqual(undone(world, [("lost", "/d"), ("file", "/h", "z")]), [("lost", "/h"), ("folder", "/d"), ("file", "/d/e", "")])
+
+    def test_deeds(self):
+        world = ({"/a": "1\n", "/d": None}, "/", {}, [], "me", 0, {})
+        told = [
+            is_deed("shift"), is_deed("cat"), tested(["-f", "a"], world), tested(["!", "-f", "d"], world), tested(["3", "-lt", "03"], world),
+            tested([], world), said(["a", "", "b"]),
+        ]
+        self.assertEqual(told, [True, False, 0, 0, 2, 2, "a  b\n"])

@@ -190,7 +190,7 @@ class ReadScriptTest(unittest.TestCase):
                     "case a in (esac)c;;esac", "case a in esac)c;;esac", "case a in (esac|b)c;;esac", "case a in ()c;;esac",
                     "case a in )c;;esac", "case a in (b|)c;;esac", "case a in (b||c)c;;esac", "case a in (b c)d;;esac",
                     "case a in (b\n)c;;esac", "case a in (\nb)c;;esac", "case a in b|\nc)d;;esac", "case a in b)c;;;esac",
-                    "case a in b)c;;d;;esac", "case a in b)c;d)e;;esac", "case a in b);esac", "case a in b);c;;esac",
+                    "case a in b)c;;d;;esac", "case a in b)c;d)e;;esac", "case a in b)c;fi)d;;esac", "case a in b);esac", "case a in b);c;;esac",
                     "case a in;esac", "case a in ;; esac", "case a in b)c;;;;esac", "case a in b)(c)esac", "esac", "in",
                     "case a in b) c;; esac d", "case a in'b')c;;esac", "case >f in esac", "case 1>f in esac",
                     "case a in ((b))c;;esac")

@@ -65,6 +65,7 @@ class SumTest(unittest.TestCase):
         self.check("x", 5, names)
         self.check("y", 0, names)
         self.check("w", 0, names)
+        self.check("w || !w", 1, {"w": "0"})
         self.check("z", -12, names)
         self.check("$0 + $# + $?", 264, names)
         self.check("$0 + $# + $?", 0)
