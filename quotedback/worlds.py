@@ -2,7 +2,6 @@
 
 from quotedback.copies import fresh
 from quotedback.errors import InvalidPath, InvalidWorld
-from quotedback.names import may_be_made
 from quotedback.paths import (
     TOP, can_put, files_moved, files_without, is_below, is_folder, is_path, nearest_folder, parent_of, path_said,
 )
@@ -16,7 +15,7 @@ def is_world(world):
         return False
     if not is_folder(files, folder) or not are_names(names) or not is_status(status):
         return False
-    return all([may_be_made(name) and is_script([("make", name, body)]) for name, body in functions.items()])
+    return all([is_script([("make", name, body)]) for name, body in functions.items()])
 
 
 def check_world(world):
@@ -44,8 +43,6 @@ def world_room(world):
 
 def below(world, path):
     check_world(world)
-    if path != TOP and not is_path(path):
-        raise InvalidPath(path)
     if not is_folder(world[0], path):
         raise InvalidPath(path)
     return parts_below(world[0], path)

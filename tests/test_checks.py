@@ -86,6 +86,8 @@ class CountTest(unittest.TestCase):
                     room, answers = found
                     self.assertGreater(len(fields(word, room, answers)), 1)
                     self.assertEqual(room[4], [])
+                    self.assertTrue(all(isinstance(value, str) for value in room[0].values()))
+                    self.assertTrue(all(len(value) <= 4000 for value in room[1] + answers))
                     self.assertLessEqual(len(answers), 60)
                     self.assertEqual(len(lists_in(found)), len(set(lists_in(found))))
 

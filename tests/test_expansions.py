@@ -81,6 +81,7 @@ class SignsTest(unittest.TestCase):
             self.check(text, [EMPTY])
         self.check('"$@"', [EMPTY], room(arguments=[""]))
         self.check('"$@"""', [EMPTY])
+        self.check('"${@+}"', [EMPTY], room(arguments=["1"]))
         self.check('"$@\'"', marked("'", "firm"))
         self.check('a"$@"b', marked("ab", "bare"))
 

@@ -21,7 +21,7 @@ def world(files=None, folder="/", names=(), arguments=(), title="me", status=0, 
 
 
 WRONG_WORLDS = [
-    world({"a": "1"}), world({"": "1"}), world({"/": None}), world({"/a/": "1"}), world({"//a": "1"}), world({"/a//b": "", "/a": None}),
+    world({"a": "1"}), world({"ab": "1"}), world({"a/b": "1"}), world({"": "1"}), world({"/": None}), world({"/a/": "1"}), world({"//a": "1"}), world({"/a//b": "", "/a": None}),
     world({"/.": "1"}), world({"/..": None}), world({"/a": None, "/a/.": "1"}), world({"/a/b": "1"}), world({"/a": "", "/a/b": "1"}),
     world({"/a": None, "/a/b/c": ""}), world(folder="/z"), world(folder="/a"), world(folder=""), world(folder="d"), world(folder="/d/"),
     world(names={"1": "a"}), world(names={"": "a"}), world(names={"a-b": ""}), world(status=-1), world(status=256),
@@ -90,7 +90,7 @@ class WorldTest(unittest.TestCase):
         self.assertEqual(with_file(world=world(), path="/a", text=""), world({**FILES, "/a": ""}))
         self.assertEqual(with_file(world(), "/d/f/h", None), world({**FILES, "/d/f/h": None}))
         self.assertEqual(with_file(world(folder="/d/f"), "/n", None)[1], "/d/f")
-        for path in ("", "/", "n", "/n/", "/d/..", "/z/n", "/a/n", "/d/e/n", "/d", "/d/f"):
+        for path in ("", "/", "n", "nm", "/n/", "/d/..", "/z/n", "/a/n", "/d/e/n", "/d", "/d/f"):
             self.refuse(InvalidPath, path, with_file, world(), path, "x")
             self.refuse(InvalidPath, path, with_file, world(), path, None)
         for path in ("/a", "/d/e"):
