@@ -21,8 +21,8 @@ class Answer:
     def __init__(self, status, rest):
         self.status = status
         self.rest = rest
-        self.out = ""
-        self.err = ""
+        self.out_text = ""
+        self.err_text = ""
         self.changes = []
         self.leap = None
 
@@ -37,9 +37,9 @@ def answer_of(fields, world, text):
         case "false":
             answer.status = 1
         case "echo":
-            answer.out = said(fields[1:])
+            answer.out_text = said(fields[1:])
         case "pwd":
-            answer.out = world[1] + "\n"
+            answer.out_text = world[1] + "\n"
         case "read":
             read_line(answer, fields[1])
         case "set":
@@ -78,6 +78,11 @@ def is_right(name, fields):
     return True
 
 
+def lines_read_by_deed(fields):
+    """Returns how many lines a deed reads."""
+    return 1 if fields[0] == "read" and is_right("read", fields[1:]) else 0
+
+
 def is_count(field):
     return is_integer(field) and field[0] != "-"
 
@@ -88,7 +93,7 @@ def is_small(field):
 
 def turn_down(answer, status, line):
     answer.status = status
-    answer.err = line + "\n"
+    answer.err_text = line + "\n"
 
 
 def read_line(answer, name):

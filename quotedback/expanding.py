@@ -130,8 +130,11 @@ class Expansion:
         signs = self.signs_of(word, is_wide)
         if kind == "must":
             raise Refused((name, joined_text(signs)))
-        self.names[name] = joined_text(signs)
+        self.set_name(name, joined_text(signs))
         return signs
+
+    def set_name(self, name, text):
+        self.names[name] = text
 
     def value_signs(self, name, is_wide):
         if name in ALL_ARGUMENTS:

@@ -63,19 +63,19 @@ class Machine:
             standing = self.stepped(standing, self.mask_of(sign))
         return self.lets(standing, 0)
 
-    def classes(self):
-        """Returns the list of the first signs, ascending, of the classes of signs that no tuple tells apart."""
-        found = [ALL_SIGNS]
+    def classes(self, signs_let):
+        """Returns the list of the first signs, ascending, of the classes of some signs that no tuple tells apart."""
+        found = [signs_let]
         for signs in sorted(set(self.sets)):
             found = [part for one in found for part in (one & signs, one & ~signs) if part != 0]
         return sorted([least_sign(one) for one in found])
 
-    def standings(self):
+    def standings(self, signs_let=ALL_SIGNS):
         """Yields the tuples (standing, text) of each way to stand, with the first text that leads to it.
 
-        They come in the order of their texts, by length and then as texts.
+        They come in the order of their texts, by length and then as texts. The texts have some signs alone.
         """
-        steps = [(sign, self.mask_of(sign)) for sign in self.classes()]
+        steps = [(sign, self.mask_of(sign)) for sign in self.classes(signs_let)]
         seen = {self.start: True}
         waiting = [(self.start, "")]
         while waiting:

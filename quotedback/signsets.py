@@ -5,6 +5,8 @@ SIGNS = (
     "\n !\"#$&'()*+,-./0123456789:;<=>?@ABCDEFGHIJKLMNOPQRSTUVWXYZ[\\]^_`abcdefghijklmnopqrstuvwxyz{|}~"
 )
 ALL_SIGNS = (1 << 95) - 1
+# Of which lines are made: all signs but the newline, which is the first one.
+LINE_SIGNS = (1 << 95) - 2
 
 
 def is_sign(text):
@@ -27,6 +29,13 @@ def set_of(piece):
 def least_sign(signs):
     """Returns the first sign of a set that is not empty."""
     return SIGNS[(signs & -signs).bit_length() - 1]
+
+
+def piece_of(signs):
+    """Returns a tuple of a pattern that lets each sign of a set by, and no other one."""
+    if signs == 0:
+        return ("of", True, [(SIGNS[0], SIGNS[-1])])
+    return ("of", False, ranges_of(signs))
 
 
 def ranges_of(signs):

@@ -36,9 +36,13 @@ def room_of(world):
 def world_room(world):
     """Returns the new room of a world that is one."""
     files, folder, names, arguments, title, status, _ = world
+    return (dict(names), list(arguments), title, status, room_paths(files, folder))
+
+
+def room_paths(files, folder):
+    """Returns the ascending list of all paths, and of those below a folder as they are told from there."""
     behind = 1 if folder == TOP else len(folder) + 1
-    inner = [path[behind:] for path in files if is_below(path, folder)]
-    return (dict(names), list(arguments), title, status, sorted(list(files) + inner))
+    return sorted(list(files) + [path[behind:] for path in files if is_below(path, folder)])
 
 
 def below(world, path):

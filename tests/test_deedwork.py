@@ -15,7 +15,7 @@ class DeedworkTest(unittest.TestCase):
         ahead = copy.deepcopy((fields, world))
         with self.subTest(fields=fields):
             answer = answer_of(fields.split(" ") if isinstance(fields, str) else fields, world, text)
-            told = (answer.status, answer.out, answer.err, answer.changes, answer.leap, answer.rest)
+            told = (answer.status, answer.out_text, answer.err_text, answer.changes, answer.leap, answer.rest)
             self.assertEqual(told, (status, out, err, list(changes), leap, rest))
             self.assertEqual((fields, world), ahead)
             self.assertEqual(set(lists_in(told)) & set(lists_in((fields, world))), set())

@@ -13,13 +13,14 @@ PACKAGE = pathlib.Path(__file__).resolve().parent.parent / "quotedback"
 FILES = sorted(PACKAGE.rglob("*.py"))
 
 BUILTINS = set("""len range enumerate zip min max sum abs sorted reversed int str bool list tuple dict set isinstance ord
-repr any all divmod Exception ValueError TypeError KeyError IndexError LookupError ZeroDivisionError iter next
+repr any all divmod property Exception ValueError TypeError KeyError IndexError LookupError ZeroDivisionError iter next
 True False None NotImplemented""".split())
 METHODS = set("""append clear copy count endswith extend find get index insert isalnum isalpha isdigit islower isspace
 isupper items join keys ljust lower lstrip partition pop remove replace reverse rfind rjust rpartition rsplit rstrip
 setdefault split splitlines startswith strip update upper values zfill bit_length""".split())
 BARRED_WORDS = set("""type typing enum Enum Generic Protocol ABC namedtuple register mro elements open input law globals
 locals vars eval exec compile importlib builtins os sys gc dir id hash super getattr setattr hasattr delattr""".split())
+LIBRARY = {"heapq", "math", "itertools"}
 BARRED_NODES = (
     ast.Global, ast.AsyncFunctionDef, ast.AsyncFor, ast.AsyncWith, ast.Await, ast.Import, ast.Div, ast.MatMult,
     ast.MatchMapping, ast.AnnAssign,
@@ -80,12 +81,13 @@ class LanguageTest(unittest.TestCase):
             defined["quotedback." + file.stem] = {name for node in body for name in bound_names(node)}
         for file in FILES:
             for module, names in imports_of(tree_of(file)).items():
-                self.assertIn(module, defined, file)
-                for name in names:
-                    self.assertIn(name, defined[module], file)
+                if module not in LIBRARY:
+                    self.assertTrue(module in defined, (file, module))
+                    for name in names:
+                        self.assertIn(name, defined[module], file)
 
     def test_no_two_files_import_from_each_other(self):
-        needed = {"quotedback." + file.stem: list(imports_of(tree_of(file))) for file in FILES}
+        needed = {"quotedback." + file.stem: set(imports_of(tree_of(file))) - LIBRARY for file in FILES}
         while needed:
             free = [module for module in needed if not any(other in needed for other in needed[module])]
             self.assertNotEqual(free, [], needed)
