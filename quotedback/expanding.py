@@ -28,7 +28,7 @@ class Expansion:
     def separators(self):
         return self.names.get("SEP", USUAL_SEP)
 
-    def value(self, name):
+    def value_of(self, name):
         """Returns the text of a name or place, `None` if it is not set."""
         if is_name(name):
             return self.names.get(name)
@@ -47,20 +47,20 @@ class Expansion:
     def is_lacking(self, name, empty):
         if name in ALL_ARGUMENTS:
             return self.told_arguments() == []
-        text = self.value(name)
+        text = self.value_of(name)
         return text is None or (empty and text == "")
 
     def length(self, name):
         """Returns the text of the number that the "size" of a name or place is."""
         if name in ALL_ARGUMENTS:
             return str(len(self.told_arguments()))
-        return str(len(self.value(name) or ""))
+        return str(len(self.value_of(name) or ""))
 
     def number(self, tree):
         """Returns the text of the number of a sum."""
         names = dict(self.names)
         for place in ("0", "#", "?"):
-            names[place] = self.value(place)
+            names[place] = self.value_of(place)
         return str(worked_out(tree, names, self.arguments))
 
     def written(self, script):
@@ -139,7 +139,7 @@ class Expansion:
     def value_signs(self, name, is_wide):
         if name in ALL_ARGUMENTS:
             return self.texts_signs(name, self.told_arguments(), is_wide)
-        return marked(self.value(name) or "", value_mark(is_wide))
+        return marked(self.value_of(name) or "", value_mark(is_wide))
 
     def texts_signs(self, name, texts, is_wide):
         """Returns the signs of the texts of all arguments, as `@` or `*` puts them together."""
@@ -156,7 +156,7 @@ class Expansion:
 
     def cut_signs(self, name, mark, word, is_wide):
         # The value is that ahead of the word, which may set names; the word is looked at once in any case.
-        texts = list(self.told_arguments()) if name in ALL_ARGUMENTS else [self.value(name) or ""]
+        texts = list(self.told_arguments()) if name in ALL_ARGUMENTS else [self.value_of(name) or ""]
         pattern = joined_pattern(self.signs_of(word, False))
         cut = [self.cut_text(text, mark, pattern) for text in texts]
         if name in ALL_ARGUMENTS:

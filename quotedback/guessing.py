@@ -29,14 +29,14 @@ class Guess(Expansion):
     def __init__(self, choices, plan):
         Expansion.__init__(self, ({}, [], "", 100, []), [])
         self.choices = choices
-        self.plan = plan
+        self.first_choices = plan
         self.taken = []
         self.known = {}
         self.answers_told = []
 
     def choose(self, options):
         at = len(self.taken)
-        index = self.plan[at] if at < len(self.plan) else 0
+        index = self.first_choices[at] if at < len(self.first_choices) else 0
         self.taken.append((index, len(options)))
         return options[index]
 
@@ -51,7 +51,7 @@ class Guess(Expansion):
     def separators(self):
         return self.choices.sep
 
-    def value(self, name):
+    def value_of(self, name):
         if name == "#":
             return self.count_text(len(self.told_arguments()))
         if name == "?":
@@ -65,7 +65,7 @@ class Guess(Expansion):
     def length(self, name):
         if name in ALL_ARGUMENTS:
             return self.count_text(len(self.told_arguments()))
-        return self.count_text(len(self.value(name) or ""))
+        return self.count_text(len(self.value_of(name) or ""))
 
     def count_text(self, count):
         """Returns the text of a number that is as great as one likes if it is so great."""

@@ -11,14 +11,13 @@ from quotedback.trees import all_commands
 ANY = "*"
 
 
-
 class Touched:
     """The paths that are read and written, found by commands that are done in a folder."""
 
     def __init__(self, folder):
         self.folder = folder
-        self.read = {}
-        self.written = {}
+        self.paths_read = {}
+        self.paths_written = {}
 
     def note(self, paths, text):
         """Notes the path that a text says, `None` for a text that is not known."""
@@ -37,13 +36,13 @@ class Touched:
     def note_turns(self, turns):
         for _, mark, word in turns:
             if mark == "<":
-                self.note(self.read, sure_text(word))
+                self.note(self.paths_read, sure_text(word))
             elif mark in (">", ">>"):
-                self.note(self.written, sure_text(word))
+                self.note(self.paths_written, sure_text(word))
 
     def note_words(self, words):
         if any([can_meet_paths(word) for word in words]):
-            self.read[ANY] = True
+            self.paths_read[ANY] = True
 
     def note_do(self, texts):
         """Notes what a "do" touches, by the texts of its words, `None` for each that is not sure."""
@@ -52,21 +51,21 @@ class Touched:
         rest = texts[1:]
         match texts[0]:
             case "cat":
-                self.note_all(self.read, rest)
+                self.note_all(self.paths_read, rest)
             case "list":
-                self.note_all(self.read, rest or [""])
+                self.note_all(self.paths_read, rest or [""])
             case "pwd":
-                self.note(self.read, "")
+                self.note(self.paths_read, "")
             case "test":
-                self.note_all(self.read, paths_tested(rest))
+                self.note_all(self.paths_read, paths_tested(rest))
             case "copy":
                 self.note_copy(rest)
             case "tee" | "make" | "remove" | "move":
-                self.note_all(self.written, rest)
+                self.note_all(self.paths_written, rest)
             case _:
                 if texts[0] is None or texts[0] == "cd" or not (is_deed(texts[0]) or texts[0] in TOOLS):
-                    self.note(self.read, None)
-                    self.note(self.written, None)
+                    self.note(self.paths_read, None)
+                    self.note(self.paths_written, None)
 
     def note_all(self, paths, texts):
         for text in texts:
@@ -74,17 +73,17 @@ class Touched:
 
     def note_copy(self, texts):
         if None in texts:
-            self.note(self.read, None)
-            self.note(self.written, None)
-        self.note_all(self.read, texts[:1])
-        self.note_all(self.written, texts[1:])
+            self.note(self.paths_read, None)
+            self.note(self.paths_written, None)
+        self.note_all(self.paths_read, texts[:1])
+        self.note_all(self.paths_written, texts[1:])
 
-    def told(self):
+    def lists(self):
         """Returns the lists of the paths that are read and written."""
-        if any([self.moves_folder(path) for path in self.written]):
-            self.note(self.read, None)
-            self.note(self.written, None)
-        return told_paths(self.read), told_paths(self.written)
+        if any([self.moves_folder(path) for path in self.paths_written]):
+            self.note(self.paths_read, None)
+            self.note(self.paths_written, None)
+        return told_paths(self.paths_read), told_paths(self.paths_written)
 
     def moves_folder(self, path):
         """Tells whether a path is the folder or lies ahead of it, so that the folder may be another one behind it."""
@@ -111,4 +110,4 @@ def touched_by(script, folder):
     found = Touched(folder)
     for command in all_commands(script):
         found.note_command(command)
-    return found.told()
+    return found.lists()
