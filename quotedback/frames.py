@@ -69,6 +69,20 @@ class Loop:
         twin.status = self.status
         return twin
 
+    def enter_script(self, is_in_script):
+        """Tells whether its script is done now, or its condition."""
+        self.is_in_script = is_in_script
+
+    def keep_status(self, status):
+        self.status = status
+
+    def next_field(self):
+        """Takes the field of the round that begins."""
+        self.is_in_script = True
+        field = self.fields[0]
+        self.fields = self.fields[1:]
+        return field
+
     def put_back(self, runner):
         """Nothing was changed for a loop."""
 

@@ -41,6 +41,19 @@ class Ground:
         self.streams.append(Stream(text, is_open))
         return len(self.streams) - 1
 
+    def put_files(self, files):
+        self.files = files
+
+    def end_stream(self, number):
+        """Tells that nothing more will come."""
+        stream = self.streams[number]
+        stream.is_open = False
+
+    def lose_stream(self, number):
+        """Tells that nobody reads any more."""
+        stream = self.streams[number]
+        stream.is_lost = True
+
     def copied(self):
         twin = Ground(self.files)
         twin.streams = [stream.copied() for stream in self.streams]

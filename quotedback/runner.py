@@ -93,7 +93,7 @@ class Runner:
             if deed[0] == "file":
                 check_size(deed[2])
         self.log.extend(deeds)
-        self.ground.files = files
+        self.ground.put_files(files)
         self.find_folder()
 
     def find_folder(self):
@@ -163,7 +163,7 @@ class Runner:
         status = self.status
         frame.put_back(self)
         if frame.stream is not None:
-            self.ground.streams[frame.stream].is_open = False
+            self.ground.end_stream(frame.stream)
         match frame.kind:
             case "apart" | "last side":
                 self.status = status

@@ -33,9 +33,9 @@ class Sides:
     def note_end(self, at):
         """Finds what has changed for the others when a side has gone on."""
         if self.runners[at].is_ended:
-            self.ground.streams[at].is_lost = True
+            self.ground.lose_stream(at)
             if at + 1 < len(self.runners):
-                self.ground.streams[at + 1].is_open = False
+                self.ground.end_stream(at + 1)
         for runner in self.runners:
             runner.find_folder()
 

@@ -54,11 +54,11 @@ def do_thing(runner, thing):
             runner.frames.append(Loop(thing[1], thing[2], []))
         case "round":
             runner.count_step()
-            runner.frames[-1].is_in_script = False
+            runner.frames[-1].enter_script(False)
         case "next":
             begin_round(runner, thing)
         case "keep status":
-            runner.frames[-1].status = runner.status
+            runner.frames[-1].keep_status(runner.status)
         case "end loop":
             runner.status = runner.frames.pop().status
         case _:
@@ -76,7 +76,7 @@ def go_if(runner, thing):
             goes = runner.status != 0
         case _:
             goes = (runner.status == 0) != (thing[0] == "while")
-            runner.frames[-1].is_in_script = not goes
+            runner.frames[-1].enter_script(not goes)
     if goes:
         runner.at = thing[1]
 
@@ -97,9 +97,7 @@ def begin_round(runner, thing):
         runner.at = thing[2]
         return
     runner.count_step()
-    loop.is_in_script = True
-    runner.set_name(thing[1], loop.fields[0])
-    loop.fields = loop.fields[1:]
+    runner.set_name(thing[1], loop.next_field())
 
 
 def begin_run(runner, script):

@@ -171,3 +171,46 @@ class LanguageTest(unittest.TestCase):
                 for node in ast.walk(function):
                     if isinstance(node, ast.Name) and node.id in captured:
                         self.assertIn(id(node), let, (file, function.name, node.id))
+
+    def test_attributes_are_assigned_through_names(self):
+        for file in FILES:
+            for node in ast.walk(tree_of(file)):
+                if isinstance(node, ast.Attribute) and isinstance(node.ctx, ast.Store):
+                    self.assertIsInstance(node.value, ast.Name, (file, node.lineno))
+
+    def test_no_name_is_a_method_and_an_attribute(self):
+        methods, attributes = {}, {}
+        for file in FILES:
+            for node in ast.walk(tree_of(file)):
+                if isinstance(node, ast.ClassDef):
+                    methods.update({inner.name: file for inner in node.body if isinstance(inner, ast.FunctionDef)})
+                if isinstance(node, ast.Attribute) and isinstance(node.ctx, ast.Store):
+                    attributes[node.attr] = file
+        self.assertEqual(sorted(set(methods) & set(attributes)), [])
+
+    def test_methods_are_not_read_off_classes(self):
+        classes = {node.name for file in FILES for node in tree_of(file).body if isinstance(node, ast.ClassDef)}
+        for file in FILES:
+            for node in ast.walk(tree_of(file)):
+                if isinstance(node, ast.Attribute) and isinstance(node.value, ast.Name) and node.value.id in classes:
+                    self.assertEqual(node.attr, "__init__", (file, node.lineno))
+
+    def test_patterns_that_are_joined_capture_nothing(self):
+        for file in FILES:
+            for node in ast.walk(tree_of(file)):
+                if isinstance(node, ast.MatchOr):
+                    for inner in ast.walk(node):
+                        self.assertNotIsInstance(inner, (ast.MatchAs, ast.MatchStar), (file, node.lineno))
+
+    def test_ranges_and_their_kin_are_gone_through_at_once(self):
+        for file in FILES:
+            tree = tree_of(file)
+            kept = {"range", "zip", "enumerate", "reversed"}
+            let = {"list", "tuple", "dict", "sorted", "sum", "any", "all", "enumerate", "zip", "min", "max", "len", "join", "reversed"}
+            for node in ast.walk(tree):
+                if isinstance(node, (ast.Assign, ast.Return)) and isinstance(node.value, ast.Call):
+                    self.assertNotIn(ast.unparse(node.value.func), kept, (file, node.lineno))
+                if isinstance(node, ast.Call) and ast.unparse(node.func).split(".")[-1] not in let | {"combinations"}:
+                    for part in node.args:
+                        if isinstance(part, ast.Call):
+                            self.assertNotIn(ast.unparse(part.func), kept, (file, node.lineno))
