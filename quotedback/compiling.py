@@ -38,7 +38,9 @@ def hole(things):
 
 def add_command(things, command):
     match command:
-        case ("do" | "make", *_):
+        case ("do", _, _, _):
+            things.append(command)
+        case ("make", _, _):
             things.append(command)
         case ("pipe", commands):
             for at in range(len(commands)):

@@ -60,8 +60,10 @@ def first_scripts(command):
             return [[part]]
         case ("and" | "or", one, _):
             return [[one]]
-        case ("group" | "apart" | "while" | "until", script, *_):
+        case ("group" | "apart", script, _):
             return [script]
+        case ("while" | "until", test, _, _):
+            return [test]
         case ("each", _, _, script, _):
             return [script]
         case ("if", arms, _, _):
