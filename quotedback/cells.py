@@ -13,7 +13,7 @@ FILTERS = ("keep", "drop", "swap", "first", "once", "number")
 def is_cell(told):
     match told:
         case ("take", lines):
-            return all(["\n" not in line for line in lines])
+            return isinstance(lines, list) and all([isinstance(line, str) and "\n" not in line for line in lines])
         case ("fork",) | ("turn",) | ("keep all",):
             return True
         case ("zip", sign):

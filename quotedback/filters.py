@@ -19,14 +19,18 @@ def is_row(row):
 def is_filter(one):
     match one:
         case ("keep" | "drop", pattern):
-            return is_pattern(pattern)
+            return isinstance(pattern, list) and is_pattern(pattern)
         case ("swap", pairs):
-            return pairs != [] and all([is_pair(pair) for pair in pairs]) and are_unlike([pair[0] for pair in pairs])
+            return isinstance(pairs, list) and are_pairs(pairs)
         case ("first" | "last", number):
-            return number >= 0
+            return isinstance(number, int) and number >= 0
         case ("order",) | ("once",) | ("count",) | ("number",):
             return True
     return False
+
+
+def are_pairs(pairs):
+    return pairs != [] and all([is_pair(pair) for pair in pairs]) and are_unlike([pair[0] for pair in pairs])
 
 
 def is_pair(pair):

@@ -9,6 +9,8 @@ MOST_ROOM = 20
 
 
 def is_net(net):
+    if len(net) != 3:
+        return False
     cells, roads, room = net
     if room < 1 or not all([is_cell(told) for told in cells]):
         return False

@@ -18,8 +18,8 @@ def is_pattern_piece(piece):
             return True
         case ("one", sign):
             return is_sign(sign)
-        case ("of", _, ranges):
-            return ranges != [] and all([is_range(told) for told in ranges])
+        case ("of", True | False, ranges):
+            return isinstance(ranges, list) and ranges != [] and all([is_range(told) for told in ranges])
     return False
 
 

@@ -9,6 +9,8 @@ GREATEST_STATUS = 255
 
 
 def is_room(room):
+    if len(room) != 5:
+        return False
     names, _, _, status, paths = room
     if not are_names(names) or not is_status(status):
         return False

@@ -10,7 +10,7 @@ LINE_SIGNS = (1 << 95) - 2
 
 
 def is_sign(text):
-    return len(text) == 1 and text in SIGNS
+    return isinstance(text, str) and len(text) == 1 and text in SIGNS
 
 
 def set_of(piece):

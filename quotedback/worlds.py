@@ -10,6 +10,8 @@ from quotedback.trees import is_script
 
 
 def is_world(world):
+    if len(world) != 7:
+        return False
     files, folder, names, _, _, status, functions = world
     if not all([is_path(path) and is_folder(files, parent_of(path)) for path in files]):
         return False

@@ -59,6 +59,7 @@ class PlainExpansion(Expansion):
         buffer = Buffer()
         inner = self.place.copy()
         self.shell.run_status = self.shell.copied(inner, lambda: self.shell.script(script, inner, [self.fds[0], buffer, self.fds[2]], 0))
+        self.place.folder = self.shell.nearest(self.place.folder)
         return buffer.text.rstrip("\n")
 
 

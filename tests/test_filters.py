@@ -31,6 +31,8 @@ WRONG_ROWS = [
     [("cat",)], [()], [("keep",)], [("keep", [("one", "ab")])], [("drop", [("of", False, [])])], [("keep", [LOT], 1)], [("swap", [])],
     [("swap", [("a", "b"), ("a", "c")])], [("swap", [("a", "\n")])], [("swap", [("\n", "a")])], [("swap", [("ab", "c")])], [("swap", [("a", "")])],
     [("first", -1)], [("last", -1)], [("first",)], [("order", 1)], [("once", 1)], [("tee", "a")], [keep(A), ("nix",)], [("list",)], [("part", 1)],
+    [("keep", 1)], [("drop", "a")], [("first", [LOT])], [("last", "1")], [("swap", 1)], [("swap", "ab")], [("swap", [LOT])], [("swap", [("one", "a")])],
+    [("keep", [("one", True)])], [("keep", [("of", True)])], [("keep", [("of", "a", [("a", "b")])])], [("keep", [("of", True, "ab")])],
 ]
 OTHER_ROWS = [[("order",)], [("once",)], [("count",)], [("number",)], [("last", 1)], [keep(A), ("last", 0)]]
 

@@ -77,14 +77,14 @@ class GrownRunsTest(unittest.TestCase):
         walk = Walk(script, world, text)
         twins = []
         while not walk.is_done():
-            fields, ahead = walk.next_fields(), len(walk.events())
+            fields = walk.next_fields()
             if grower.chance(0.1):
                 twins.append(walk.copy())
             walk.step()
             self.assertTrue(is_world(walk.standing()))
             if fields is not None:
-                # The event may have come ahead already, if a script was done for a set behind it.
-                self.assertIn(("do", fields), walk.events()[max(0, ahead - 40):])
+                # The event may have come long ahead already, if a script was done for a set behind it.
+                self.assertIn(("do", fields), walk.events())
         for one in [walk] + twins:
             while not one.is_done():
                 one.step()

@@ -44,7 +44,7 @@ class WorldTest(unittest.TestCase):
         for one in (world(), world({}), world(folder="/d/f"), world(names={"x": "", "_1": "a"}, arguments=["", "b"], status=255),
                     world(functions={"f": GROUP, "x": ("case", [("bare", "a")], [], [])}), world({"/..a": "", "/...": None})):
             self.assertIs(is_world(one), True)
-        for one in WRONG_WORLDS:
+        for one in WRONG_WORLDS + [world()[:6], world() + ({},), ()]:
             self.assertIs(is_world(world=one), False, one)
 
     def test_wrong_worlds(self):
