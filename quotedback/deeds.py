@@ -3,6 +3,7 @@
 from quotedback.names import DEEDS
 from quotedback.paths import is_folder, path_said
 from quotedback.sums import is_integer
+from quotedback.worlds import check_world
 
 WRONG = 2
 
@@ -16,6 +17,12 @@ def said(fields):
 
 
 def tested(fields, world):
+    check_world(world)
+    return test_status(fields, world)
+
+
+def test_status(fields, world):
+    """Returns the status of `test` in a world that is one."""
     at = 0
     while at + 1 < len(fields) and fields[at] == "!":
         at += 1

@@ -1,6 +1,6 @@
 """What each deed of the shell does with its fields, told as an answer that whoever runs it acts on."""
 
-from quotedback.deeds import WRONG, said, tested
+from quotedback.deeds import WRONG, said, test_status
 from quotedback.names import is_name
 from quotedback.paths import TOP, is_folder, path_said
 from quotedback.rooms import GREATEST_STATUS
@@ -125,7 +125,7 @@ def go_to_folder(answer, field, world):
 
 
 def test_fields(answer, fields, world):
-    status = tested(fields, world)
+    status = test_status(fields, world)
     if status == WRONG:
         turn_down(answer, WRONG, "test: wrong")
     answer.status = status

@@ -3,6 +3,8 @@
 import unittest
 
 from quotedback.deeds import is_deed, said, tested
+from quotedback.errors import InvalidWorld
+from tests.test_worlds import WRONG_WORLDS
 
 WORLD = ({"/a": "1\n", "/d": None, "/d/e": "", "/d/f": None}, "/d", {}, [], "me", 0, {})
 
@@ -27,6 +29,12 @@ class DeedsTest(unittest.TestCase):
         self.assertEqual(said([]), "\n")
         self.assertEqual(said([""]), "\n")
         self.assertEqual(said(fields=["a", "", "b c", "\n", "-n"]), "a  b c \n -n\n")
+
+    def test_worlds_that_are_none(self):
+        for wrong in WRONG_WORLDS:
+            with self.assertRaises(InvalidWorld) as caught:
+                tested(["a"], wrong)
+            self.assertEqual(caught.exception.value, wrong)
 
     def test_texts(self):
         self.check(0, "a")
